@@ -1,0 +1,1 @@
+"""Stuckwire: gates with a wire stuck at nought or one."""
