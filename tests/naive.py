@@ -84,3 +84,80 @@ def samples():
     """Circuits from the least to the greatest sizes."""
     sizes = [(0, 1, 1), (0, 60, 16), (1, 0, 1), (2, 7, 3), (3, 12, 16), (4, 20, 5), (5, 9, 1), (8, 0, 16)]
     return [drawn(7 + place, *size) for place, size in enumerate(sizes)]
+
+
+def joined():
+    """Not of and: the out's table is 0111."""
+    return Circuit(2, [("and", 0, 1), ("not", 2)], [3])
+
+
+def spare():
+    """The and changes nothing at the out, which is input 0; wires 4 and 5 are not needed."""
+    return Circuit(2, [("and", 0, 1), ("or", 0, 2), ("xor", 3, 1), ("fix", 1)], [3])
+
+
+def small():
+    """Many small circuits: 0 to 4 inputs, 0 to 12 rows, 1 to 5 outs."""
+    found = []
+    for ins in range(5):
+        for rows in range(13):
+            for turn in range(4):
+                if ins + rows > 0:
+                    start = 7919 * ins + 613 * rows + 101 * turn
+                    found.append(drawn(start, ins, rows, 1 + (ins + rows + turn) % 5))
+    return found
+
+
+def needed(circuit):
+    """Out by out, and from each needed gate to the wires it goes by, until nothing is new."""
+    found = set()
+    ahead = list(circuit.outs)
+    while ahead:
+        wire = ahead.pop()
+        if wire not in found:
+            found.add(wire)
+            if wire >= circuit.ins and circuit.rows[wire - circuit.ins][0] != "fix":
+                ahead += circuit.rows[wire - circuit.ins][1:]
+    return [wire for wire in range(circuit.ins + len(circuit.rows)) if wire in found]
+
+
+def own_bit(circuit, wire):
+    """The bit of a fix wire, None for all others."""
+    if wire >= circuit.ins and circuit.rows[wire - circuit.ins][0] == "fix":
+        return circuit.rows[wire - circuit.ins][1]
+    return None
+
+
+def told_faults(circuit):
+    """Every fault but those of wires that are not needed and those that stick a fix wire at its own bit."""
+    wires = needed(circuit)
+    found = []
+    for fault in every_fault(circuit):
+        stuck = fault[1]
+        if fault[0] == "leg":
+            stuck = circuit.rows[fault[1] - circuit.ins][1 + fault[2]]
+        if fault[1] in wires and own_bit(circuit, stuck) != fault[-1]:
+            found.append(fault)
+    return found
+
+
+def out_bits(circuit, fault):
+    """For each GIVEN in turn the outs' bits."""
+    every = [bits(circuit, given, fault) for given in range(2 ** circuit.ins)]
+    return [[seen[out] for out in circuit.outs] for seen in every]
+
+
+def tellers(circuit, fault):
+    """The GIVENs at which some out has another bit with the fault than without."""
+    pairs = zip(out_bits(circuit, None), out_bits(circuit, fault))
+    return [given for given, (good, bad) in enumerate(pairs) if good != bad]
+
+
+def hold_own(case, ask):
+    """Changing a list that is told changes neither one told before nor one told later."""
+    first, second = ask(), ask()
+    kept = list(first)
+    first[0] = None
+    first.append(9)
+    case.assertEqual(second, kept)
+    case.assertEqual(ask(), kept)
