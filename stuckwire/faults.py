@@ -59,7 +59,10 @@ def differing(one_tables, other_tables):
 
 
 def least_telling(circuit, fault):
-    told = telling(circuit, fault)
+    return least_given(telling(circuit, fault))
+
+
+def least_given(told):
     if told == 0:
         return None
     # A number and its negative share just the least of its bits.

@@ -96,6 +96,21 @@ def spare():
     return Circuit(2, [("and", 0, 1), ("or", 0, 2), ("xor", 3, 1), ("fix", 1)], [3])
 
 
+def twice():
+    """One input turned round twice, side by side."""
+    return Circuit(1, [("not", 0), ("not", 0)], [1, 2])
+
+
+def fixed():
+    """The least circuit: no inputs, and an out that is always 0."""
+    return Circuit(0, [("fix", 0)], [0])
+
+
+def without_outs():
+    """Beyond the bounds: no fault at all. With an out there is always one that is not idle, the out's own."""
+    return Circuit(2, [("and", 0, 1)], [])
+
+
 def small():
     """Many small circuits: 0 to 4 inputs, 0 to 12 rows, 1 to 5 outs."""
     found = []

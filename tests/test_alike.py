@@ -1,14 +1,9 @@
 import unittest
 
 import naive
-from naive import joined, spare
+from naive import joined, spare, twice
 from stuckwire.alike import as_easy, groups, hard, idle
 from stuckwire.circuits import Circuit
-
-
-def twice():
-    """One input turned round twice, side by side."""
-    return Circuit(1, [("not", 0), ("not", 0)], [1, 2])
 
 
 class Groups(unittest.TestCase):

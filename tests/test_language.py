@@ -16,7 +16,7 @@ import unittest
 
 import naive
 import stuckwire
-from stuckwire import alike, circuits, faults, lean, text
+from stuckwire import alike, book, circuits, desk, faults, lean, rowing, text
 
 FOLDER = pathlib.Path(stuckwire.__file__).parent
 NAME = "stuckwire"
@@ -984,8 +984,8 @@ class Language(unittest.TestCase):
                 self.assertTrue(path.is_file() and path.parent == FOLDER and path.suffix == ".py", path)
 
     def test_the_files_are_there(self):
-        files = {"__init__.py", "errors.py", "circuits.py", "text.py", "faults.py", "alike.py", "lean.py"}
-        self.assertLessEqual(files, set(package_texts()))
+        files = "__init__ errors circuits text faults alike lean rowing book lines desk".split()
+        self.assertLessEqual({name + ".py" for name in files}, set(package_texts()))
 
     def test_every_file_keeps_every_rule(self):
         self.assertEqual(broken(package_texts()), [])
@@ -1028,6 +1028,14 @@ class Depth(unittest.TestCase):
             alike.as_easy(circuit, fault, fault)
             lean.lean(circuit)
             lean.lean(naive.drawn(11, 8, 60, 16))
+            rowing.tells_all(circuit, rowing.thinned(circuit))
+            rowing.fewest(naive.drawn(11, 3, 60, 16))
+            book.named(circuit, [0, 255] * 150, book.answers(circuit, [0, 255] * 150, fault))
+            book.widened(circuit, [])
+            asked = desk.Desk()
+            asked.say("new " + " / ".join(text.shown(circuit)))
+            for line in ("give 255", "stuck 8 1 0", "leg 9 0 1 0", "faults", "idle", "tells 8 1", "named 0 1", "lean"):
+                asked.say(line)
         finally:
             sys.setrecursionlimit(limit)
 
