@@ -162,6 +162,12 @@ class NoLines(Held):
             "faults 0", "faults faults", "idle idle", "idle 0", "tells 2 0 0 0", "tells tells 0 0",
             "named named 0 1", "named 0 1 3 0 2", "lean lean", "lean 0", "give 0 /", "faults / idle"])
 
+    def test_words_exchanged(self):
+        self.refuse(desk_with(JOINED), NoLine, [
+            "3 give", "0 stuck 0 0", "0 0 0 stuck", "2 leg 0 0 0", "1 tells 0", "1 named 0", "ins new 1 / outs 0",
+            "stuck 2 0 1 0", "leg 2 1 0", "give 2 1 0", "tells 2 0 1 0", "named 2 0 1", "faults 0 0", "idle faults",
+            "lean new", "lean ins 1 / outs 0", "give lean"])
+
     def test_a_word_in_the_place_of_a_number(self):
         self.refuse(desk_with(JOINED), NoLine, [
             "give x", "give -1", "give +1", "give 1.0", "give 0x1", "give 1_0", "give /", "give none", "stuck x 0 0",
